@@ -1,0 +1,16 @@
+"""The bounds of what this package takes and tells."""
+
+MAX_PARTS = 40
+MAX_TICKS = 10 ** 30
+MAX_NUMBER = 10 ** 60
+MAX_BURSTS = 100
+MAX_TIMES = 10 ** 30
+MAX_STEPS = 6000
+MAX_EFFECT = 12
+MAX_COUNT = 300
+MAX_TIMERS = 400
+MAX_NAMES = 8
+MAX_NAME = 8
+MAX_NEST = 8
+BATCH = 12
+MAX_EDITS = 40

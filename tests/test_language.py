@@ -1,0 +1,196 @@
+"""The package keeps to the small language that it is written in.
+
+Only the rules that can be seen without much ado are looked at here.
+"""
+
+import ast
+import builtins
+import pathlib
+import re
+import unittest
+
+ROOT = pathlib.Path(__file__).resolve().parent.parent
+PACKAGE = ROOT / "latewires"
+FILES = sorted(PACKAGE.rglob("*.py"))
+
+BUILTINS = set("""
+    len range enumerate zip min max sum abs sorted reversed int str bool list tuple dict set isinstance ord repr
+    any all divmod iter next map property staticmethod classmethod super NotImplemented
+    Exception ValueError TypeError KeyError IndexError LookupError ZeroDivisionError ArithmeticError
+    OverflowError RuntimeError NotImplementedError AttributeError StopIteration
+""".split())
+
+METHODS = set("""
+    append clear copy count endswith extend find get index insert isalnum isalpha isdigit islower isspace isupper
+    items join keys ljust lower lstrip partition pop remove replace reverse rfind rjust rpartition rsplit rstrip
+    setdefault split splitlines startswith strip update upper values zfill bit_length add discard
+    appendleft popleft extendleft rotate
+""".split())
+
+BARRED = set("""
+    register mro elements open input law version_info with_traceback add_note
+    typing typing_extensions enum Enum IntEnum StrEnum Flag IntFlag Generic Protocol ABC ABCMeta namedtuple
+    NamedTuple TypedDict TYPE_CHECKING abstractmethod dataclass overload contextmanager
+""".split())
+
+STATEMENTS = (
+    ast.FunctionDef, ast.ClassDef, ast.Assign, ast.AugAssign, ast.AnnAssign, ast.If, ast.While, ast.For, ast.Return,
+    ast.Break, ast.Continue, ast.Pass, ast.Raise, ast.Assert, ast.Delete, ast.Nonlocal, ast.Match, ast.With,
+    ast.Try, ast.Expr, ast.ImportFrom,
+)
+
+# Where the interface lists each function and class.
+INTERFACE = {
+    "signals": ["signal_error", "is_on", "on_ticks"],
+}
+
+
+def tree_of(path):
+    return ast.parse(path.read_text(encoding="utf-8"))
+
+
+def imports_of(tree):
+    """Return the list of pairs of the module and the name of each import."""
+    return [(node.module, alias.name) for node in tree.body if isinstance(node, ast.ImportFrom)
+            for alias in node.names]
+
+
+def bound_in(tree):
+    """Return the set of all names that stand as functions, classes, parameters, targets or imports."""
+    names = set()
+    for node in ast.walk(tree):
+        if isinstance(node, (ast.FunctionDef, ast.ClassDef)):
+            names.add(node.name)
+        elif isinstance(node, ast.arg):
+            names.add(node.arg)
+        elif isinstance(node, ast.Name) and not isinstance(node.ctx, ast.Load):
+            names.add(node.id)
+        elif isinstance(node, ast.ExceptHandler) and node.name:
+            names.add(node.name)
+        elif isinstance(node, ast.alias):
+            names.add(node.name)
+    return names
+
+
+class TestLanguage(unittest.TestCase):
+    def over_files(self):
+        for path in FILES:
+            with self.subTest(path=path.name):
+                yield path, tree_of(path)
+
+    def test_the_folder_holds_files_of_code_alone(self):
+        for path in PACKAGE.rglob("*"):
+            if "__pycache__" not in path.parts:
+                self.assertTrue(path.is_dir() or path.suffix == ".py", path)
+                self.assertRegex(path.stem, r"^([a-z][a-z0-9_]*|__init__|__main__)$")
+                self.assertNotRegex(path.stem, r"^(law_|test)")
+
+    def test_sizes_and_signs(self):
+        for path, tree in self.over_files():
+            text = path.read_text(encoding="utf-8")
+            lines = text.split("\n")
+            self.assertLessEqual(len(lines), 400)
+            self.assertTrue(all(sign == "\n" or " " <= sign <= "~" for sign in text))
+            self.assertTrue(all(len(line) <= 120 for line in lines))
+            for node in ast.walk(tree):
+                if isinstance(node, ast.FunctionDef):
+                    self.assertLessEqual(node.end_lineno - node.lineno + 1, 40, node.name)
+
+    def test_imports_name_the_file_that_defines(self):
+        for path, tree in self.over_files():
+            for node in ast.walk(tree):
+                self.assertNotIsInstance(node, ast.Import)
+            for module, name in imports_of(tree):
+                self.assertTrue(module.startswith("latewires."), module)
+                source = tree_of(PACKAGE / (module.split(".")[1] + ".py"))
+                defined = [node.name for node in source.body if isinstance(node, (ast.FunctionDef, ast.ClassDef))]
+                defined += [node.targets[0].id for node in source.body if isinstance(node, ast.Assign)]
+                self.assertIn(name, defined)
+
+    def test_no_two_files_import_from_each_other(self):
+        ahead = {path.stem: {module.split(".")[1] for module, _ in imports_of(tree_of(path))} for path in FILES}
+        done = set()
+        while len(done) < len(ahead):
+            free = [name for name in ahead if name not in done and ahead[name] <= done]
+            self.assertTrue(free, sorted(set(ahead) - done))
+            done.update(free)
+
+    def test_modules_hold_definitions_alone(self):
+        for path, tree in self.over_files():
+            for place, node in enumerate(tree.body):
+                if isinstance(node, ast.Expr):
+                    self.assertTrue(place == 0 and isinstance(node.value, ast.Constant))
+                else:
+                    self.assertIsInstance(node, (ast.FunctionDef, ast.ClassDef, ast.Assign, ast.ImportFrom))
+            bound = [node.name for node in tree.body if isinstance(node, (ast.FunctionDef, ast.ClassDef))]
+            bound += [node.targets[0].id for node in tree.body if isinstance(node, ast.Assign)]
+            bound += [name for _, name in imports_of(tree)]
+            self.assertEqual(len(bound), len(set(bound)))
+
+    def test_names(self):
+        for path, tree in self.over_files():
+            bound = bound_in(tree)
+            held = {name for _, name in imports_of(tree)}
+            for node in ast.walk(tree):
+                if isinstance(node, ast.FunctionDef):
+                    inner = bound_in(ast.Module(body=node.body, type_ignores=[]))
+                    inner |= {arg.arg for arg in ast.walk(node.args) if isinstance(arg, ast.arg)}
+                    self.assertFalse(inner & held, node.name)
+                if isinstance(node, ast.Name) and isinstance(node.ctx, ast.Load) and node.id not in bound:
+                    self.assertIn(node.id, BUILTINS)
+            for name in bound - {"__init__", "__eq__", "__len__", "__iter__", "__contains__", "__getitem__", "__ne__"}:
+                self.assertRegex(name, r"^(_|_?[A-Za-z][A-Za-z0-9_]*)$")
+                self.assertFalse(hasattr(builtins, name), name)
+                self.assertNotRegex(name, r"^_(wall|pe_|dcw_|enum_|cm_|twin_re_|lay_|law_|stub_|sre|cold|outside)")
+
+    def test_statements_and_values(self):
+        for path, tree in self.over_files():
+            for node in ast.walk(tree):
+                if isinstance(node, ast.stmt):
+                    self.assertIsInstance(node, STATEMENTS, node)
+                if isinstance(node, ast.Constant):
+                    self.assertNotIsInstance(node.value, (float, complex, bytes))
+                    if isinstance(node.value, str):
+                        self.assertNotIn("%", node.value)
+                self.assertNotIsInstance(node, (ast.Div, ast.MatMult, ast.Await))
+                if isinstance(node, (ast.FunctionDef, ast.ClassDef)):
+                    for decorator in node.decorator_list:
+                        self.assertIsInstance(node, ast.FunctionDef)
+                        self.assertRegex(ast.unparse(decorator), r"^(property|staticmethod|classmethod|\w+\.setter)$")
+                if isinstance(node, ast.Compare):
+                    for sign, right in zip(node.ops, node.comparators):
+                        if isinstance(sign, (ast.Is, ast.IsNot)):
+                            self.assertIsInstance(right, ast.Constant)
+
+    def test_methods_and_words(self):
+        own = set()
+        for path in FILES:
+            for node in ast.walk(tree_of(path)):
+                if isinstance(node, ast.ClassDef):
+                    own.update(item.name for item in node.body if isinstance(item, ast.FunctionDef))
+        for path, tree in self.over_files():
+            for node in ast.walk(tree):
+                if isinstance(node, ast.Call) and isinstance(node.func, ast.Attribute):
+                    self.assertIn(node.func.attr, METHODS | own)
+            words = set(re.findall(r"\w+", path.read_text(encoding="utf-8")))
+            self.assertFalse(words & BARRED)
+
+    def test_handlers_catch_own_errors(self):
+        own = bound_in(tree_of(PACKAGE / "errors.py")) | {"KeyError", "ZeroDivisionError"}
+        for path, tree in self.over_files():
+            for node in ast.walk(tree):
+                if isinstance(node, ast.ExceptHandler):
+                    for name in ast.walk(node.type):
+                        if isinstance(name, ast.Name):
+                            self.assertIn(name.id, own)
+
+    def test_the_interface_is_defined_where_it_is_listed(self):
+        for module, names in INTERFACE.items():
+            tree = tree_of(PACKAGE / (module + ".py"))
+            defined = [node.name for node in tree.body if isinstance(node, (ast.FunctionDef, ast.ClassDef))]
+            for name in names:
+                self.assertIn(name, defined)
+
+
+if __name__ == "__main__":
+    unittest.main()
