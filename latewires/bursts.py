@@ -24,3 +24,32 @@ def takes_on(first, second):
     if first[1] != second[1]:
         return False
     return first[3] == 1 or first[2] == second[0] - burst_end(first)
+
+
+def burst_of(tick, on, off, times):
+    """Return the burst of so many ons, off ticks between them: off tells nothing if there is one on alone."""
+    return (tick, on, off if times > 1 else 0, times)
+
+
+def joined(bursts):
+    """Return the tuple of bursts in which, from the left, each one has taken on all that goes on alike.
+
+    bursts are in order, with an off tick at least between two.
+    """
+    told = []
+    for burst in bursts:
+        if told and takes_on(told[-1], burst):
+            told[-1:] = _taken_on(told[-1], burst)
+        else:
+            told.append(burst)
+    return tuple(told)
+
+
+def _taken_on(first, second):
+    """Return the list of first with what it takes on from second, and what is left of second, if anything is."""
+    tick, on, _, times = first
+    begin, _, off, many = second
+    gap = begin - burst_end(first)
+    if many == 1 or off == gap:
+        return [(tick, on, gap, times + many)]
+    return [(tick, on, gap, times + 1), burst_of(begin + on + off, on, off, many - 1)]

@@ -93,3 +93,64 @@ def train_strip(rng, pieces):
         ticks += [False] * rng.choice((0, 0, 1, 2))
     ticks += [rng.random() < 0.4] * rng.randint(1, 3)
     return left, ticks
+
+
+def row_strips(row, strip):
+    """Return the list of the strips behind each part of row, each part done tick by tick as it is told."""
+    strips = []
+    reach = sum(part[1] for part in row if part != ("turn",))
+    left, ticks = strip
+    now = (left, ticks + [ticks[-1]] * reach)
+    for part in row:
+        now = part_strip(part, now)
+        strips.append(now)
+    return strips
+
+
+def part_strip(part, strip):
+    """Return the strip behind one part; the part must not be on or off behind the end of the strip's list."""
+    left, ticks = strip
+    places = range(START, START + len(ticks))
+    if part == ("turn",):
+        return not left, [not on for on in ticks]
+    word, reach = part
+    if word == "delay":
+        return left, [strip_at(strip, tick - reach) for tick in places]
+    every = {"on": all, "off": any}[word]
+    return left, [every([strip_at(strip, tick - k) for k in range(reach + 1)]) for tick in places]
+
+
+def moved(signal, ticks):
+    """Return signal so many ticks later."""
+    if signal == (0, (), 0):
+        return signal
+    until, bursts, since = signal
+    return (
+        None if until is None else until + ticks,
+        tuple((tick + ticks, on, off, times) for tick, on, off, times in bursts),
+        None if since is None else since + ticks,
+    )
+
+
+def scaled_signal(signal, by):
+    """Return signal with each tick made so many ticks."""
+    until, bursts, since = signal
+    return (
+        None if until is None else until * by,
+        tuple((tick * by, on * by, off * by, times) for tick, on, off, times in bursts),
+        None if since is None else since * by,
+    )
+
+
+def scaled_row(row, by):
+    """Return row with each tick made so many ticks."""
+    return tuple((part[0], *(ticks * by for ticks in part[1:])) for part in row)
+
+
+def some_row(rng, parts, most, words=("on", "off", "delay", "turn")):
+    """Return a row of so many parts, each of at most so many ticks, by a random source."""
+    row = []
+    for _ in range(parts):
+        word = rng.choice(words)
+        row.append((word,) if word == "turn" else (word, rng.randint(0, most)))
+    return tuple(row)

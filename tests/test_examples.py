@@ -22,13 +22,66 @@ A7 = '''
     (7, 23, 0, 1000000000000000000000000000000, True)
 '''
 
+A8 = '''
+    >>> from latewires.signaltexts import read_signal, signal_text
+    >>> signal_text(some), signal_text((None, (), None)), signal_text((0, (), 0)), read_signal("until -3; 0 7; since 9"), read_signal("0 1 1 1000")
+    ('until 3; 5 2 3 4; 40 1; since 90', '', 'on', (-3, ((0, 7, 0, 1),), 9), (None, ((0, 1, 1, 1000),), None))
+    >>> read_signal("0 1; 2 1")
+    raises BadText()
+    >>> read_signal("until 0; since 0")
+    raises BadText()
+    >>> read_signal("5 2 0 1")
+    raises BadText()
+'''
+
+B2 = '''
+    >>> from latewires.rows import row_error
+    >>> row, steady, wide = (("on", 3), ("off", 5), ("delay", 2), ("on", 1)), (("on", 4), ("off", 4)), (("off", 4), ("on", 4))
+    >>> [row_error(value) for value in (row, (), (("turn",),) * 40, (("turn",),) * 41, list(row), None)]
+    [None, None, None, 'form', 'form', 'form']
+    >>> [row_error((("on", 0), part)) for part in (("on",), ("turn", 0), "turn", ["turn"], ("on", True), ("off", -1), ("delay", 10 ** 30 + 1), ("late", 2))]
+    [('part', 1), ('part', 1), ('part', 1), ('part', 1), ('part', 1), ('part', 1), ('part', 1), ('part', 1)]
+'''
+
+B3 = '''
+    >>> from latewires.rowtexts import read_row, row_text
+    >>> row_text(row), row_text(()), row_text((("turn",), ("on", 0)))
+    ('on 3, off 5, delay 2, on 1', 'none', 'turn, on 0')
+    >>> read_row("off 4, on 4") == wide, read_row("none"), read_row("turn")
+    (True, (), (('turn',),))
+    >>> read_row("on 3,off 5")
+    raises BadText()
+    >>> read_row("on 03")
+    raises BadText()
+    >>> read_row("")
+    raises BadText()
+'''
+
+B4 = '''
+    >>> from latewires.answers import answer, answers
+    >>> door = (None, ((0, 6, 2, 2), (30, 2, 0, 1)), None)
+    >>> answers(row, door)
+    ((None, ((3, 3, 5, 2),), None), (None, ((3, 16, 0, 1),), None), (None, ((5, 16, 0, 1),), None), (None, ((6, 15, 0, 1),), None))
+    >>> answer(steady, door), answer(wide, door)
+    ((None, ((4, 6, 2, 2),), None), (None, ((4, 14, 0, 1), (34, 2, 0, 1)), None))
+    >>> answer((("turn",),), door), answer((), door) == door, answers((), door)
+    ((0, ((6, 2, 0, 1), (14, 16, 0, 1)), 32), True, ())
+    >>> answer((("on", 2),), (5, (), 9)), answer((("off", 2),), (5, (), 9)), answer((("off", 4),), (5, (), 9)), answer((("turn",),), (0, (), 0))
+    ((5, (), 11), (7, (), 9), (0, (), 0), (None, (), None))
+    >>> answer((("on", 10 ** 30),), (None, ((0, 10 ** 30, 1, 7), (10 ** 32, 10 ** 30 + 1, 0, 1)), None)) == (None, ((10 ** 32 + 10 ** 30, 1, 0, 1),), None)
+    True
+'''
+
 
 class TestExamples(unittest.TestCase):
     def test_signals(self):
-        run(self, A7, run(self, A6))
+        run(self, A8, run(self, A7, run(self, A6)))
+
+    def test_rows(self):
+        run(self, B4, run(self, B3, run(self, B2)))
 
     def test_the_runner_sees_each_example(self):
-        self.assertEqual([len(pieces(text)) for text in (A6, A7)], [5, 2])
+        self.assertEqual([len(pieces(text)) for text in (A6, A7, A8, B2, B3, B4)], [5, 2, 5, 4, 6, 7])
 
 
 if __name__ == "__main__":

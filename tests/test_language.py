@@ -24,7 +24,7 @@ METHODS = set("""
     append clear copy count endswith extend find get index insert isalnum isalpha isdigit islower isspace isupper
     items join keys ljust lower lstrip partition pop remove replace reverse rfind rjust rpartition rsplit rstrip
     setdefault split splitlines startswith strip update upper values zfill bit_length add discard
-    appendleft popleft extendleft rotate
+    appendleft popleft extendleft rotate removeprefix removesuffix
 """.split())
 
 BARRED = set("""
@@ -42,6 +42,10 @@ STATEMENTS = (
 # Where the interface lists each function and class.
 INTERFACE = {
     "signals": ["signal_error", "is_on", "on_ticks"],
+    "signaltexts": ["signal_text", "read_signal"],
+    "rows": ["row_error"],
+    "rowtexts": ["row_text", "read_row"],
+    "answers": ["answer", "answers"],
 }
 
 
@@ -72,12 +76,11 @@ def bound_in(tree):
     return names
 
 
-class TestLanguage(unittest.TestCase):
-    def over_files(self):
-        for path in FILES:
-            with self.subTest(path=path.name):
-                yield path, tree_of(path)
+def over_files():
+    return [(path, tree_of(path)) for path in FILES]
 
+
+class TestLanguage(unittest.TestCase):
     def test_the_folder_holds_files_of_code_alone(self):
         for path in PACKAGE.rglob("*"):
             if "__pycache__" not in path.parts:
@@ -86,26 +89,26 @@ class TestLanguage(unittest.TestCase):
                 self.assertNotRegex(path.stem, r"^(law_|test)")
 
     def test_sizes_and_signs(self):
-        for path, tree in self.over_files():
+        for path, tree in over_files():
             text = path.read_text(encoding="utf-8")
             lines = text.split("\n")
-            self.assertLessEqual(len(lines), 400)
-            self.assertTrue(all(sign == "\n" or " " <= sign <= "~" for sign in text))
-            self.assertTrue(all(len(line) <= 120 for line in lines))
+            self.assertLessEqual(len(lines), 400, path)
+            self.assertTrue(all(sign == "\n" or " " <= sign <= "~" for sign in text), path)
+            self.assertTrue(all(len(line) <= 120 for line in lines), path)
             for node in ast.walk(tree):
                 if isinstance(node, ast.FunctionDef):
                     self.assertLessEqual(node.end_lineno - node.lineno + 1, 40, node.name)
 
     def test_imports_name_the_file_that_defines(self):
-        for path, tree in self.over_files():
+        for path, tree in over_files():
             for node in ast.walk(tree):
-                self.assertNotIsInstance(node, ast.Import)
+                self.assertNotIsInstance(node, ast.Import, path)
             for module, name in imports_of(tree):
                 self.assertTrue(module.startswith("latewires."), module)
                 source = tree_of(PACKAGE / (module.split(".")[1] + ".py"))
                 defined = [node.name for node in source.body if isinstance(node, (ast.FunctionDef, ast.ClassDef))]
                 defined += [node.targets[0].id for node in source.body if isinstance(node, ast.Assign)]
-                self.assertIn(name, defined)
+                self.assertIn(name, defined, path)
 
     def test_no_two_files_import_from_each_other(self):
         ahead = {path.stem: {module.split(".")[1] for module, _ in imports_of(tree_of(path))} for path in FILES}
@@ -116,42 +119,42 @@ class TestLanguage(unittest.TestCase):
             done.update(free)
 
     def test_modules_hold_definitions_alone(self):
-        for path, tree in self.over_files():
+        for path, tree in over_files():
             for place, node in enumerate(tree.body):
                 if isinstance(node, ast.Expr):
                     self.assertTrue(place == 0 and isinstance(node.value, ast.Constant))
                 else:
-                    self.assertIsInstance(node, (ast.FunctionDef, ast.ClassDef, ast.Assign, ast.ImportFrom))
+                    self.assertIsInstance(node, (ast.FunctionDef, ast.ClassDef, ast.Assign, ast.ImportFrom), path)
             bound = [node.name for node in tree.body if isinstance(node, (ast.FunctionDef, ast.ClassDef))]
             bound += [node.targets[0].id for node in tree.body if isinstance(node, ast.Assign)]
             bound += [name for _, name in imports_of(tree)]
-            self.assertEqual(len(bound), len(set(bound)))
+            self.assertEqual(len(bound), len(set(bound)), path)
 
     def test_names(self):
-        for path, tree in self.over_files():
+        for path, tree in over_files():
             bound = bound_in(tree)
             held = {name for _, name in imports_of(tree)}
             for node in ast.walk(tree):
                 if isinstance(node, ast.FunctionDef):
                     inner = bound_in(ast.Module(body=node.body, type_ignores=[]))
                     inner |= {arg.arg for arg in ast.walk(node.args) if isinstance(arg, ast.arg)}
-                    self.assertFalse(inner & held, node.name)
+                    self.assertFalse(inner & held, (path, node.name))
                 if isinstance(node, ast.Name) and isinstance(node.ctx, ast.Load) and node.id not in bound:
-                    self.assertIn(node.id, BUILTINS)
+                    self.assertIn(node.id, BUILTINS, path)
             for name in bound - {"__init__", "__eq__", "__len__", "__iter__", "__contains__", "__getitem__", "__ne__"}:
                 self.assertRegex(name, r"^(_|_?[A-Za-z][A-Za-z0-9_]*)$")
                 self.assertFalse(hasattr(builtins, name), name)
                 self.assertNotRegex(name, r"^_(wall|pe_|dcw_|enum_|cm_|twin_re_|lay_|law_|stub_|sre|cold|outside)")
 
     def test_statements_and_values(self):
-        for path, tree in self.over_files():
+        for path, tree in over_files():
             for node in ast.walk(tree):
                 if isinstance(node, ast.stmt):
-                    self.assertIsInstance(node, STATEMENTS, node)
+                    self.assertIsInstance(node, STATEMENTS, path)
                 if isinstance(node, ast.Constant):
                     self.assertNotIsInstance(node.value, (float, complex, bytes))
                     if isinstance(node.value, str):
-                        self.assertNotIn("%", node.value)
+                        self.assertNotIn("%", node.value, path)
                 self.assertNotIsInstance(node, (ast.Div, ast.MatMult, ast.Await))
                 if isinstance(node, (ast.FunctionDef, ast.ClassDef)):
                     for decorator in node.decorator_list:
@@ -160,7 +163,7 @@ class TestLanguage(unittest.TestCase):
                 if isinstance(node, ast.Compare):
                     for sign, right in zip(node.ops, node.comparators):
                         if isinstance(sign, (ast.Is, ast.IsNot)):
-                            self.assertIsInstance(right, ast.Constant)
+                            self.assertIsInstance(right, ast.Constant, path)
 
     def test_methods_and_words(self):
         own = set()
@@ -168,21 +171,21 @@ class TestLanguage(unittest.TestCase):
             for node in ast.walk(tree_of(path)):
                 if isinstance(node, ast.ClassDef):
                     own.update(item.name for item in node.body if isinstance(item, ast.FunctionDef))
-        for path, tree in self.over_files():
+        for path, tree in over_files():
             for node in ast.walk(tree):
                 if isinstance(node, ast.Call) and isinstance(node.func, ast.Attribute):
-                    self.assertIn(node.func.attr, METHODS | own)
+                    self.assertIn(node.func.attr, METHODS | own, path)
             words = set(re.findall(r"\w+", path.read_text(encoding="utf-8")))
-            self.assertFalse(words & BARRED)
+            self.assertFalse(words & BARRED, path)
 
     def test_handlers_catch_own_errors(self):
         own = bound_in(tree_of(PACKAGE / "errors.py")) | {"KeyError", "ZeroDivisionError"}
-        for path, tree in self.over_files():
+        for path, tree in over_files():
             for node in ast.walk(tree):
                 if isinstance(node, ast.ExceptHandler):
                     for name in ast.walk(node.type):
                         if isinstance(name, ast.Name):
-                            self.assertIn(name.id, own)
+                            self.assertIn(name.id, own, path)
 
     def test_the_interface_is_defined_where_it_is_listed(self):
         for module, names in INTERFACE.items():
