@@ -72,6 +72,61 @@ B4 = '''
     True
 '''
 
+C3 = '''
+    >>> from latewires.walks import form, heights, stages
+    >>> row, steady, wide = (("on", 3), ("off", 5), ("delay", 2), ("on", 1)), (("on", 4), ("off", 4)), (("off", 4), ("on", 4))
+    >>> heights(row), stages(row), form(row)
+    ((3, -2, -2, -1), (('drop', 3), ('fill', 2)), (False, 6, 7, (('drop', 3), ('fill', 2))))
+    >>> form(steady), form(wide), form(()), form((("delay", 7),))
+    ((False, 4, 4, (('drop', 4),)), (False, 4, 4, (('fill', 4),)), (False, 0, 0, ()), (False, 7, 7, ()))
+    >>> form((("on", 2), ("off", 1), ("on", 1))), form((("on", 2), ("off", 4), ("on", 7), ("off", 1), ("on", 2)))
+    ((False, 3, 1, (('drop', 2),)), (False, 11, 5, (('drop', 2), ('fill', 2), ('drop', 6))))
+    >>> heights((("on", 1), ("turn",), ("on", 3), ("turn",), ("off", 1))), form((("turn",), ("on", 3))), form((("turn",), ("delay", 2), ("turn",)))
+    ((1, 1, -2, -2, -3), (True, 0, 3, (('fill', 3),)), (False, 2, 2, ()))
+'''
+
+C4 = '''
+    >>> from latewires.meanings import cleaned, meant
+    >>> train = (None, ((0, 2, 1, 5),), None)
+    >>> cleaned((("drop", 2), ("fill", 1)), train), cleaned((("fill", 1), ("drop", 2)), train), cleaned((("fill", 1), ("drop", 14)), train)
+    ((None, (), None), (None, ((0, 14, 0, 1),), None), (None, (), None))
+    >>> cleaned((("drop", 1), ("fill", 3)), (0, ((2, 1, 0, 1), (5, 2, 0, 1)), 9)), cleaned((("fill", 9),), (0, (), 9))
+    ((0, (), 5), (0, (), 0))
+'''
+
+C5 = '''
+    >>> signal = (None, ((0, 3, 0, 1), (10, 6, 0, 1)), None)
+    >>> meant(form(steady), signal), meant(form(wide), signal), meant(form((("turn",), ("on", 3))), (0, (), 5))
+    ((None, ((14, 6, 0, 1),), None), (None, ((4, 3, 0, 1), (14, 6, 0, 1)), None), (None, ((3, 2, 0, 1),), None))
+'''
+
+D2 = '''
+    >>> from latewires.orders import alike, dropped_ahead, filled_ahead, shifts, within
+    >>> some = (("drop", 2), ("fill", 3), ("drop", 5))
+    >>> [filled_ahead(some, k) for k in (0, 1, 2, 4, 5, 9)], [dropped_ahead(some, l) for l in (0, 2, 3, 8)], filled_ahead((), 3)
+    ([0, 0, 3, 3, 3, 3], [2, 2, 5, 5], 0)
+'''
+
+D3 = '''
+    >>> steady, wide, twice, back = (("on", 4), ("off", 4)), (("off", 4), ("on", 4)), (("on", 2), ("off", 4), ("on", 2)), (("off", 2), ("on", 4), ("off", 2))
+    >>> alike((("on", 2), ("off", 1), ("on", 1)), (("delay", 1), ("on", 2))), alike(steady, wide), alike((("turn",), ("on", 3)), (("off", 3), ("turn",)))
+    (True, False, True)
+    >>> within(steady, wide), within(wide, steady), within(twice, back), within(back, twice), within((("on", 3),), ()), within((("turn",),), ())
+    (True, False, True, False, True, False)
+    >>> shifts((("on", 3),), ()), shifts(steady, ()), shifts((), steady), shifts((("turn",), ("on", 3)), (("turn",),))
+    ((-3, 0), (-4, -4), None, (-3, 0))
+'''
+
+D4 = '''
+    >>> from latewires.papers import beyond, beyond_holds, unlike, unlike_holds
+    >>> beyond(steady, wide), unlike(steady, steady), beyond_holds(back, twice, ((None, ((0, 1, 1, 2),), None), 4)), beyond_holds(back, twice, ((None, ((0, 1, 1, 2),), None), 3))
+    (None, None, True, False)
+    >>> [beyond_holds(wide, steady, value) for value in (beyond(wide, steady), ((None, ((0, 4, 0, 1),), None), 4), ((None, ((0, 5, 0, 1),), None), 4), [], None)]
+    [True, True, False, False, False]
+    >>> unlike_holds(steady, wide, unlike(steady, wide)), unlike_holds(twice, back, ((None, ((0, 2, 1, 2),), None), 8)), beyond_holds((), (("turn",),), ((0, (), 0), 7))
+    (True, True, True)
+'''
+
 
 class TestExamples(unittest.TestCase):
     def test_signals(self):
@@ -80,8 +135,15 @@ class TestExamples(unittest.TestCase):
     def test_rows(self):
         run(self, B4, run(self, B3, run(self, B2)))
 
+    def test_walks_and_meanings(self):
+        run(self, C5, run(self, C4, run(self, C3)))
+
+    def test_orders_and_papers(self):
+        run(self, D4, run(self, D3, run(self, D2)))
+
     def test_the_runner_sees_each_example(self):
         self.assertEqual([len(pieces(text)) for text in (A6, A7, A8, B2, B3, B4)], [5, 2, 5, 4, 6, 7])
+        self.assertEqual([len(pieces(text)) for text in (C3, C4, C5, D2, D3, D4)], [6, 4, 2, 3, 4, 4])
 
 
 if __name__ == "__main__":

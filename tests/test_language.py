@@ -46,6 +46,10 @@ INTERFACE = {
     "rows": ["row_error"],
     "rowtexts": ["row_text", "read_row"],
     "answers": ["answer", "answers"],
+    "walks": ["heights", "stages", "form"],
+    "meanings": ["cleaned", "meant"],
+    "orders": ["filled_ahead", "dropped_ahead", "alike", "within", "shifts"],
+    "papers": ["beyond", "beyond_holds", "unlike", "unlike_holds"],
 }
 
 
