@@ -127,6 +127,73 @@ D4 = '''
     (True, True, True)
 '''
 
+E2 = '''
+    >>> from latewires.chains import is_exchange, chain, chain_holds
+    >>> swing, swung, short = (("on", 2), ("off", 1), ("on", 1)), (("on", 2), ("delay", 1), ("on", 0)), (("on", 2), ("delay", 1))
+    >>> is_exchange(swing, swung), is_exchange(swung, swing), is_exchange(swung, short), is_exchange(swing, short), is_exchange(swing, swing)
+    (True, True, True, False, False)
+    >>> is_exchange((("off", 3), ("on", 2), ("off", 1)), (("off", 3), ("delay", 1), ("on", 1))), is_exchange((("on", 2), ("off", 3), ("on", 4)), (("on", 2), ("delay", 3), ("on", 1)))
+    (True, False)
+    >>> is_exchange((("turn",), ("on", 3)), (("off", 3), ("turn",))), is_exchange((("on", 3), ("turn",)), (("turn",), ("off", 3))), is_exchange((("turn",), ("delay", 2)), (("delay", 2), ("turn",)))
+    (True, True, True)
+    >>> is_exchange((("turn",), ("turn",)), ()), is_exchange((("on", 5),), (("on", 2), ("on", 3))), is_exchange((("delay", 2), ("delay", 2)), (("delay", 2), ("delay", 2)))
+    (True, True, False)
+'''
+
+E3 = '''
+    >>> steady, wide, late = (("on", 4), ("off", 4)), (("off", 4), ("on", 4)), (("delay", 1), ("on", 2))
+    >>> chain(steady, wide), chain_holds(steady, steady, (steady,)), chain_holds(swing, late, chain(swing, late))
+    (None, True, True)
+    >>> [chain_holds(swing, late, value) for value in ((swing, swung, short, late), (swing, short, late), (swung, short, late), [swing, swung, short, late], (), None, (swing, ("on", 2), late))]
+    [True, False, False, False, False, False, False]
+    >>> both = (("turn",), ("on", 3), ("turn",))
+    >>> chain_holds(both, (("off", 3),), (both, (("off", 3), ("turn",), ("turn",)), (("off", 3),))), chain_holds(late, late, (late, short, late))
+    (True, True)
+'''
+
+F2 = '''
+    >>> from latewires.forms import form_error
+    >>> from latewires.walks import form
+    >>> row, steady, wide = (("on", 3), ("off", 5), ("delay", 2), ("on", 1)), (("on", 4), ("off", 4)), (("off", 4), ("on", 4))
+    >>> [form_error(form(some)) for some in (row, steady, wide, (), (("turn",), ("on", 3)))]
+    [None, None, None, None, None]
+    >>> [form_error(value) for value in (None, [False, 0, 0, ()], (0, 0, 0, ()), (False, True, 0, ()), (False, 0, -1, ()), (False, 0, 0, []))]
+    ['form', 'form', 'form', 'form', 'form', 'form']
+    >>> [form_error((False, 9, 9, stages)) for stages in ((("drop", 0),), (("drop", 2), ("drop", 3)), (("drop", 2), ("fill", 1), ("drop", 2)), (["fill", 1],))]
+    [('stage', 0), ('stage', 1), ('stage', 2), ('stage', 0)]
+    >>> [form_error((False, 4, late_off, (("drop", 4),))) for late_off in (3, 4, 5, 0)], form_error((False, 3, 3, (("drop", 4),))), form_error((True, 1, 2, ()))
+    ([None, None, 'late', None], 'late', 'late')
+    >>> form_error((False, 4, 4, (("drop", 4), ("fill", 4)))), form_error((False, 8, 8, (("drop", 4), ("fill", 4))))
+    ('late', None)
+'''
+
+F3 = '''
+    >>> from latewires.building import fewest_parts, fewest_timers, row_of
+    >>> slow = (False, 19, 19, (("drop", 5), ("fill", 2)))
+    >>> [form(row_of(some)) == some for some in (slow, form(row), form(wide), (True, 6, 6, ()), (False, 0, 0, ()))]
+    [True, True, True, True, True]
+    >>> [len(fewest_parts(some)) for some in (form(row), form(steady), slow, (True, 6, 6, ()), (False, 0, 0, ()))]
+    [4, 2, 4, 2, 0]
+    >>> [len(fewest_timers(some)) for some in (form(row), form(steady), slow, (False, 5, 5, (("drop", 4),)), (True, 0, 0, ()))]
+    [4, 2, 6, 4, 1]
+    >>> form(fewest_timers(slow)) == slow, form((("on", 3), ("off", 5), ("on", 3), ("off", 2))) == form(row)
+    (True, True)
+    >>> fewest_timers((False, 7, 7, ()))
+    raises NoRow()
+    >>> row_of((False, 3, 3, (("drop", 4),)))
+    raises BadForm('late')
+'''
+
+F5 = '''
+    >>> from latewires.counting import effect_count, effects
+    >>> effects(0), effects(1), effects(2)[0], effects(2)[-1]
+    (((False, 0, 0, ()),), ((False, 0, 1, (('fill', 1),)), (False, 1, 0, (('drop', 1),))), (False, 0, 2, (('fill', 2),)), (False, 2, 0, (('drop', 2),)))
+    >>> [effect_count(ticks) for ticks in range(13)], len(effects(4))
+    ([1, 2, 4, 8, 14, 22, 34, 50, 72, 100, 138, 186, 248], 14)
+    >>> effects(13)
+    raises TooMany(12)
+'''
+
 
 class TestExamples(unittest.TestCase):
     def test_signals(self):
@@ -141,9 +208,19 @@ class TestExamples(unittest.TestCase):
     def test_orders_and_papers(self):
         run(self, D4, run(self, D3, run(self, D2)))
 
+    def test_chains(self):
+        run(self, E3, run(self, E2))
+
+    def test_forms_and_building(self):
+        run(self, F3, run(self, F2))
+
+    def test_counting(self):
+        run(self, F5)
+
     def test_the_runner_sees_each_example(self):
         self.assertEqual([len(pieces(text)) for text in (A6, A7, A8, B2, B3, B4)], [5, 2, 5, 4, 6, 7])
         self.assertEqual([len(pieces(text)) for text in (C3, C4, C5, D2, D3, D4)], [6, 4, 2, 3, 4, 4])
+        self.assertEqual([len(pieces(text)) for text in (E2, E3, F2, F3, F5)], [6, 5, 8, 8, 4])
 
 
 if __name__ == "__main__":

@@ -50,6 +50,10 @@ INTERFACE = {
     "meanings": ["cleaned", "meant"],
     "orders": ["filled_ahead", "dropped_ahead", "alike", "within", "shifts"],
     "papers": ["beyond", "beyond_holds", "unlike", "unlike_holds"],
+    "chains": ["is_exchange", "chain", "chain_holds"],
+    "forms": ["form_error"],
+    "building": ["row_of", "fewest_parts", "fewest_timers"],
+    "counting": ["effects", "effect_count"],
 }
 
 
