@@ -9,7 +9,6 @@ from latewires.walks import form
 from tests.models import scaled_row, some_row
 from tests.values import VALUES, near
 
-TURN = ("turn",)
 TOP = 10 ** 30
 
 

@@ -53,8 +53,3 @@ def near(value):
             yield value[:place - 1] + (item, value[place - 1]) + value[place + 1:]
         for other in near(item):
             yield value[:place] + (other,) + value[place + 1:]
-
-
-def shown(value):
-    """Return a text of a value that tells apart what == does not."""
-    return repr(value)
