@@ -20,20 +20,18 @@ def alike(one, other):
 
 def within(one, other):
     """Return whether, for each signal, one's answer is on at no tick at which other's is off."""
-    least_most = shifts(one, other)
-    return least_most is not None and least_most[0] <= 0 <= least_most[1]
+    return lies_within(form(one), form(other))
 
 
 def shifts(one, other):
     """Return the pair of the least and the greatest c for which one, c ticks later, lies within other, or None."""
-    first, second = form(one), form(other)
-    if first[0] != second[0]:
-        return None
-    if first[0]:
-        # With the turns left away other must lie within one, and be later by what one is sooner.
-        least_most = _plain_shifts(second, first)
-        return None if least_most is None else (-least_most[1], -least_most[0])
-    return _plain_shifts(first, second)
+    return _form_shifts(form(one), form(other))
+
+
+def lies_within(first, second):
+    """Return whether a row with the form first lies within a row with the form second."""
+    least_most = _form_shifts(first, second)
+    return least_most is not None and least_most[0] <= 0 <= least_most[1]
 
 
 def telling_numbers(steps, others):
@@ -59,6 +57,17 @@ def _lie_low(steps, others):
         if dropped_ahead(steps, number) < dropped_ahead(others, number):
             return False
     return True
+
+
+def _form_shifts(first, second):
+    """Return what shifts tells of rows of these forms."""
+    if first[0] != second[0]:
+        return None
+    if first[0]:
+        # With the turns left away other must lie within one, and be later by what one is sooner.
+        least_most = _plain_shifts(second, first)
+        return None if least_most is None else (-least_most[1], -least_most[0])
+    return _plain_shifts(first, second)
 
 
 def _plain_shifts(first, second):

@@ -11,13 +11,7 @@ from latewires.walks import form
 
 def beyond(one, other):
     """Return None if one lies within other, otherwise a pair (signal, tick) that shows that it does not."""
-    first, second = form(one), form(other)
-    if first[0] != second[0]:
-        return (ALWAYS_OFF if first[0] else ALWAYS_ON, 0)
-    if first[0]:
-        # Where other, its turn left away, is on and one off, one is on and other off.
-        return _plain_beyond(second, first)
-    return _plain_beyond(first, second)
+    return paper_beyond(form(one), form(other))
 
 
 def beyond_holds(one, other, value):
@@ -38,6 +32,20 @@ def unlike_holds(one, other, value):
     if not _is_paper(value):
         return False
     return _is_on_behind(one, value) != _is_on_behind(other, value)
+
+
+def paper_beyond(first, second):
+    """Return what beyond tells of rows of these forms.
+
+    The signal has no ons and no offs that end on both sides but such with the
+    number of a stage: so it keeps what the forms were promised, if anything was.
+    """
+    if first[0] != second[0]:
+        return (ALWAYS_OFF if first[0] else ALWAYS_ON, 0)
+    if first[0]:
+        # Where other, its turn left away, is on and one off, one is on and other off.
+        return _plain_beyond(second, first)
+    return _plain_beyond(first, second)
 
 
 def _is_paper(value):

@@ -15,26 +15,22 @@ def heights(row):
 
 def stages(row):
     """Return the tuple of the stages that row's walk makes."""
-    made = []
-    top = depth = 0
-    for height in heights(row):
-        if height > top:
-            top = height
-            _make_stage(made, "drop", height)
-        elif height < depth:
-            depth = height
-            _make_stage(made, "fill", -height)
-    return tuple(made)
+    return _stages_past(row, 0, 0)
 
 
 def form(row):
     """Return the form of row: (is_turned, late_on, late_off, stages)."""
+    return form_past(row, 0, 0)
+
+
+def form_past(row, top, depth):
+    """Return the form of row but for its stages: only heights above top, and depths beyond depth, make some."""
     rises = _rises(row)
     delays = sum([part[1] for part in row if part[0] == "delay"])
     late_on = delays + sum([rise for rise in rises if rise > 0])
     late_off = delays - sum([rise for rise in rises if rise < 0])
     is_turned = row.count(TURN) % 2 == 1
-    return (is_turned, late_on, late_off, stages(row))
+    return (is_turned, late_on, late_off, _stages_past(row, top, depth))
 
 
 def _rises(row):
@@ -50,6 +46,20 @@ def _rises(row):
         else:
             rises.append(part[1] if part[0] == up else -part[1])
     return rises
+
+
+def _stages_past(row, top, depth):
+    """Return the tuple of the stages of row's walk that heights above top, and depths beyond depth, make."""
+    made = []
+    highest, lowest = top, -depth
+    for height in heights(row):
+        if height > highest:
+            highest = height
+            _make_stage(made, "drop", height)
+        elif height < lowest:
+            lowest = height
+            _make_stage(made, "fill", -height)
+    return tuple(made)
 
 
 def _make_stage(made, word, number):

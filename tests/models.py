@@ -154,3 +154,60 @@ def some_row(rng, parts, most, words=("on", "off", "delay", "turn")):
         word = rng.choice(words)
         row.append((word,) if word == "turn" else (word, rng.randint(0, most)))
     return tuple(row)
+
+
+def is_told_in_one_way(signal):
+    """Return whether signal, with whatever many bursts and great numbers, is told as signals are told."""
+    if signal == (0, (), 0):
+        return True
+    until, bursts, since = signal
+    behind = until
+    ahead = None
+    for tick, on, off, times in bursts:
+        if on < 1 or times < 1 or (off < 1) != (times == 1) or off < 0:
+            return False
+        if behind is not None and tick <= behind:
+            return False
+        if ahead is not None and ahead[1] == on and (ahead[3] == 1 or ahead[2] == tick - behind):
+            return False
+        behind = tick + times * on + (times - 1) * off
+        ahead = (tick, on, off, times)
+    return since is None or behind is None or since > behind
+
+
+def long_signal(rng, bursts, most, many):
+    """Return a signal of so many bursts by a random source, with ons, offs up to most, up to many of them a burst."""
+    until = rng.randint(-most, most) if rng.random() < 0.5 else None
+    behind = 0 if until is None else until
+    told = []
+    for _ in range(bursts):
+        on, off, times, gap = (rng.randint(1, rng.choice((3, top))) for top in (most, most, many, most))
+        if told and told[-1][1] == on and (told[-1][3] == 1 or told[-1][2] == gap):
+            on += 1
+        told.append((behind + gap, on, off if times > 1 else 0, times))
+        behind += gap + times * on + (times - 1) * told[-1][2]
+    since = behind + rng.randint(1, most) if rng.random() < 0.5 else None
+    return until, tuple(told), since
+
+
+def edges_of(signal):
+    """Return the list of the first tick of the ons and offs of signal, of great trains of the first and the last ones."""
+    until, bursts, since = signal
+    edges = [tick for tick in (until, since) if tick is not None]
+    for tick, on, off, times in bursts:
+        for k in (0, 1, times // 2, times - 2, times - 1):
+            begin = tick + min(max(k, 0), times - 1) * (on + off)
+            edges += [begin, begin + on]
+    return edges
+
+
+def keeping(strip, ons, offs):
+    """Return whether the ons and offs of a strip that end on both sides have at least so many ticks."""
+    left, ticks = strip
+    runs = [[left, 0]]
+    for on in ticks:
+        if on != runs[-1][0]:
+            runs.append([on, 0])
+        runs[-1][1] += 1
+    # The first run and the last one are endless.
+    return all(many >= (ons if on else offs) for on, many in runs[1:-1])

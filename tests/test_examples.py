@@ -194,6 +194,93 @@ F5 = '''
     raises TooMany(12)
 '''
 
+G2 = '''
+    >>> from latewires.promises import alike_for, beyond_for, form_for, keeps, undone_by, within_for
+    >>> row, steady, wide = (("on", 3), ("off", 5), ("delay", 2), ("on", 1)), (("on", 4), ("off", 4)), (("off", 4), ("on", 4))
+    >>> signal = (None, ((0, 4, 0, 1), (10, 6, 0, 1)), None)
+    >>> keeps(signal, 4, 6), keeps(signal, 5, 1), keeps(signal, 1, 7), keeps((0, (), 5), 90, 5), keeps((0, (), 5), 1, 6), keeps((None, ((0, 2, 3, 7),), None), 2, 3)
+    (True, False, False, True, False, True)
+    >>> form_for(row, 1, 1), form_for(row, 4, 1), form_for(row, 1, 3), form_for(row, 4, 3)
+    ((False, 6, 7, (('drop', 3), ('fill', 2))), (False, 6, 7, (('fill', 2),)), (False, 6, 7, (('drop', 3),)), (False, 6, 7, ()))
+    >>> form_for(steady, 4, 1), form_for(steady, 5, 1), form_for((("on", 2), ("off", 4), ("on", 7)), 4, 1)
+    ((False, 4, 4, (('drop', 4),)), (False, 4, 4, ()), (False, 9, 4, (('fill', 2), ('drop', 5))))
+'''
+
+G3 = '''
+    >>> from latewires.papers import beyond_holds
+    >>> alike_for(steady, wide, 5, 5), alike_for(steady, wide, 5, 4), alike_for(steady, wide, 4, 5), alike_for((("delay", 4),), wide, 1, 5)
+    (True, False, False, True)
+    >>> within_for(wide, steady, 5, 5), within_for(wide, steady, 5, 4), within_for(steady, wide, 5, 4), beyond_for(wide, steady, 5, 5)
+    (True, False, True, None)
+    >>> beyond_holds(wide, steady, ((0, (), 4), 4)), keeps((0, (), 4), 5, 4), beyond_holds(wide, steady, beyond_for(wide, steady, 5, 4)), keeps(beyond_for(wide, steady, 5, 4)[0], 5, 4)
+    (True, True, True, True)
+'''
+
+G4 = '''
+    >>> from latewires.answers import answer
+    >>> back, late = undone_by(row, 4, 3)
+    >>> late, answer(row, signal), answer(back, answer(row, signal))
+    (7, (None, ((6, 5, 0, 1), (16, 7, 0, 1)), None), (None, ((7, 4, 0, 1), (17, 6, 0, 1)), None))
+    >>> undone_by(row, 3, 3), undone_by(row, 4, 2), undone_by(steady, 5, 1)[1], undone_by((("turn",), ("on", 3)), 1, 4)[1], undone_by((), 1, 1)[1]
+    (None, None, 4, 3, 0)
+'''
+
+H2 = '''
+    >>> from latewires.powers import power_form, settles
+    >>> up, deep, even, back = (("on", 3), ("off", 1)), (("on", 2), ("off", 5)), (("off", 1), ("on", 3), ("off", 2)), (("on", 2), ("turn",))
+    >>> power_form(up, 2), power_form(up, 0), power_form(up, 10 ** 30) == (False, 3 * 10 ** 30, 10 ** 30, (("drop", 2 * 10 ** 30 + 1),))
+    ((False, 6, 2, (('drop', 5),)), (False, 0, 0, ()), True)
+    >>> power_form(deep, 1), power_form(deep, 3), power_form(even, 1000)
+    ((False, 2, 5, (('drop', 2), ('fill', 3))), (False, 6, 15, (('drop', 2), ('fill', 9))), (False, 3000, 3000, (('fill', 1), ('drop', 2))))
+    >>> power_form(back, 1), power_form(back, 2), power_form(back, 3), power_form(back, 10 ** 30)[1:]
+    ((True, 2, 0, (('drop', 2),)), (False, 2, 2, (('drop', 2),)), (True, 4, 2, (('drop', 2),)), (1000000000000000000000000000000, 1000000000000000000000000000000, (('drop', 2),)))
+'''
+
+H3 = '''
+    >>> settles(()), settles((("delay", 4),)), settles(even), settles(up), settles(back), settles(back + back), settles((("turn",),))
+    (0, 0, 1, None, None, 1, None)
+'''
+
+H4 = '''
+    >>> from latewires.pulses import gap, pulse
+    >>> pulse(deep, 2), pulse(deep, 3), gap(deep, 3), gap(deep, 4), pulse((), 7), pulse((("delay", 2),), 10 ** 40)[0]
+    (None, (2, 6), None, (5, 1), (0, 7), 2)
+    >>> pulse(back, 2), pulse(back, 3), gap(back, 1), pulse((("turn",),), 5)
+    (None, (2, 1), (0, 3), (0, 5))
+'''
+
+I2 = '''
+    >>> from latewires.loose import always_alike, least_on, loose_error, most_on, sure_beyond, sure_beyond_holds, sure_within
+    >>> edge, about = (("on", 2, 4), ("off", 3, 3)), (("on", 2, 4), ("turn",), ("off", 1, 5), ("delay", 6))
+    >>> [loose_error(value) for value in (edge, about, (), [], (("on", 4, 2),), (("delay", 1), ("on", 2)), (("turn", 1),), (("off", True, 2),))]
+    [None, None, None, 'form', ('part', 0), ('part', 1), ('part', 0), ('part', 0)]
+'''
+
+I3 = '''
+    >>> most_on(edge), least_on(edge)
+    ((('on', 2), ('off', 3)), (('on', 4), ('off', 3)))
+    >>> most_on(about), least_on(about)
+    ((('on', 4), ('turn',), ('off', 5), ('delay', 6)), (('on', 2), ('turn',), ('off', 1), ('delay', 6)))
+    >>> from latewires.answers import answer
+    >>> answer(least_on(edge), (None, ((0, 4, 0, 1), (20, 9, 0, 1)), None)), answer(most_on(edge), (None, ((0, 4, 0, 1), (20, 9, 0, 1)), None))
+    ((None, ((24, 8, 0, 1),), None), (None, ((2, 5, 0, 1), (22, 10, 0, 1)), None))
+'''
+
+I4 = '''
+    >>> sure_within(edge, (("off", 3, 9),)), sure_within(edge, (("off", 2, 9),)), sure_within(edge, edge), sure_beyond(edge, (("off", 3, 9),))
+    (True, False, False, None)
+    >>> sure_beyond_holds(edge, (("off", 2, 9),), ((("on", 2), ("off", 3)), (("off", 2),), (0, (), None), 2)), sure_beyond_holds(edge, edge, sure_beyond(edge, edge))
+    (True, True)
+    >>> paper = ((("on", 2), ("off", 3)), (("on", 4), ("off", 3)), (None, (), 0), 2)
+    >>> [sure_beyond_holds(edge, edge, value) for value in (paper, paper[:3] + (4,), (paper[1], paper[0]) + paper[2:], ((("on", 5), ("off", 3)),) + paper[1:], None)]
+    [True, False, False, False, False]
+'''
+
+I5 = '''
+    >>> always_alike(edge), always_alike((("on", 3, 3), ("delay", 2))), always_alike(()), always_alike((("off", 0, 1), ("turn",)))
+    (False, True, True, False)
+'''
+
 
 class TestExamples(unittest.TestCase):
     def test_signals(self):
@@ -217,10 +304,21 @@ class TestExamples(unittest.TestCase):
     def test_counting(self):
         run(self, F5)
 
+    def test_promises(self):
+        run(self, G4, run(self, G3, run(self, G2)))
+
+    def test_powers_and_pulses(self):
+        run(self, H4, run(self, H3, run(self, H2)))
+
+    def test_loose_rows(self):
+        run(self, I5, run(self, I4, run(self, I3, run(self, I2))))
+
     def test_the_runner_sees_each_example(self):
         self.assertEqual([len(pieces(text)) for text in (A6, A7, A8, B2, B3, B4)], [5, 2, 5, 4, 6, 7])
         self.assertEqual([len(pieces(text)) for text in (C3, C4, C5, D2, D3, D4)], [6, 4, 2, 3, 4, 4])
         self.assertEqual([len(pieces(text)) for text in (E2, E3, F2, F3, F5)], [6, 5, 8, 8, 4])
+        self.assertEqual([len(pieces(text)) for text in (G2, G3, G4, H2, H3, H4)], [6, 4, 4, 5, 1, 3])
+        self.assertEqual([len(pieces(text)) for text in (I2, I3, I4, I5)], [3, 4, 4, 1])
 
 
 if __name__ == "__main__":

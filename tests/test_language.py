@@ -54,6 +54,10 @@ INTERFACE = {
     "forms": ["form_error"],
     "building": ["row_of", "fewest_parts", "fewest_timers"],
     "counting": ["effects", "effect_count"],
+    "promises": ["keeps", "form_for", "alike_for", "within_for", "beyond_for", "undone_by"],
+    "powers": ["power_form", "settles"],
+    "pulses": ["pulse", "gap"],
+    "loose": ["loose_error", "most_on", "least_on", "sure_within", "sure_beyond", "sure_beyond_holds", "always_alike"],
 }
 
 
