@@ -31,6 +31,14 @@ def burst_of(tick, on, off, times):
     return (tick, on, off if times > 1 else 0, times)
 
 
+def train_beyond(on, off, ticks):
+    """Return the burst of ons, offs between them, of which there are just so many that filled it has more than ticks.
+
+    With an off of 0, which stands for none, on must be above ticks: one on is enough then.
+    """
+    return burst_of(0, on, off, (ticks + off) // (on + off) + 1)
+
+
 def joined(bursts):
     """Return the tuple of bursts in which, from the left, each one has taken on all that goes on alike.
 

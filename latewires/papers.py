@@ -1,7 +1,7 @@
 """Papers: a signal and a tick that show that a row lies not within another one, or is unlike it."""
 
 from latewires.answers import answer
-from latewires.bursts import burst_of
+from latewires.bursts import train_beyond
 from latewires.kinds import is_plain_integer, is_tuple_of
 from latewires.orders import dropped_ahead, filled_ahead, telling_numbers
 from latewires.signals import ALWAYS_OFF, ALWAYS_ON, is_on, signal_error
@@ -89,7 +89,6 @@ def _first_above(steps, word, bound):
 def _train_paper(shape, on, off):
     """Return a pair with so many ons, offs between, that what they are filled to is not dropped by shape's stages.
 
-    With an off of 0, which stands for none to be filled, on is above all drops, and one on is enough.
+    An off of 0 stands for none to be filled: on is above all drops then.
     """
-    times = (most_dropped(shape[3]) + off) // (on + off) + 1
-    return ((None, (burst_of(0, on, off, times),), None), shape[1])
+    return ((None, (train_beyond(on, off, most_dropped(shape[3])),), None), shape[1])

@@ -281,6 +281,59 @@ I5 = '''
     (False, True, True, False)
 '''
 
+J1 = '''
+    >>> from latewires.answers import answer
+    >>> from latewires.asking import told_back
+    >>> row, wide = (("on", 3), ("off", 5), ("delay", 2), ("on", 1)), (("off", 4), ("on", 4))
+    >>> told_back(lambda signal: answer(row, signal)), told_back(lambda signal: signal), told_back(lambda signal: answer(wide, signal))
+    ((False, 6, 7, (('drop', 3), ('fill', 2))), (False, 0, 0, ()), (False, 4, 4, (('fill', 4),)))
+    >>> far = (("turn",), ("off", 10 ** 30), ("on", 3 * 10 ** 29), ("turn",), ("turn",))
+    >>> told_back(lambda signal: answer(far, signal)) == (True, 10 ** 30, 3 * 10 ** 29, (("drop", 10 ** 30),))
+    True
+'''
+
+K5 = '''
+    >>> from latewires.benches import Bench
+    >>> b = Bench()
+    >>> [b.keep("a", (("on", 2), ("off", 1))), b.keep("b", (("on", 1),)), b.link("a", "b", "c"), list(b), b["c"]]
+    [1, 2, 3, ['a', 'b', 'c'], (('on', 2), ('off', 1), ('on', 1))]
+    >>> [b.form_of("c"), b.put("b", 0, ("delay", 1)), b.put("b", 2, ("on", 1)), b["b"], b.same("b", "c"), b.inside("c", "b"), b.made]
+    [(False, 3, 1, (('drop', 2),)), 4, 5, (('delay', 1), ('on', 1), ('on', 1)), True, True, 2]
+    >>> [b.take("b", 0), b.inside("c", "b"), b.inside("b", "c"), b.undo(), b.same("c", "b"), b.made]
+    [6, False, False, 5, True, 3]
+    >>> b.put("a", 3, ("on", 1))
+    raises Unfit()
+    >>> b.put("a", 2, ("on", -1))
+    raises BadRow(('part', 2))
+    >>> b.link("a", "z", "d")
+    raises NoName('z')
+    >>> b.batch((("drop", "a"), ("take", "a", 0)))
+    raises Rejected(1)
+'''
+
+K6 = r'''
+    >>> from latewires.logs import bench_behind, log_text, read_log
+    >>> log_text(b.log[1:4]), log_text((("batch", ()),))
+    ('(keep,b,((on,1)))\n(link,a,b,c)\n(put,b,0,(delay,1))\n', '(batch,())\n')
+    >>> read_log(log_text(b.log)) == b.log, bench_behind(b.log) == b, read_log("(drop,a)\n(drop,b")
+    (True, True, (('drop', 'a'),))
+    >>> read_log("(drop,a)\n(take,a,07)\n")
+    raises BadLog(1)
+    >>> bench_behind((("drop", "a"),))
+    raises BadLog(0)
+'''
+
+K7 = '''
+    >>> from latewires.shells import Shell
+    >>> s = Shell()
+    >>> [s.say("keep a on 2, off 1"), s.say("put a 2 on 1"), s.say("form a"), s.say("show a"), s.say("names"), s.say("keep b turn")]
+    ['version 1', 'version 2', 'plain 3 1 drop 2', 'on 2, off 1, on 1', 'a', 'version 3']
+    >>> [s.say("link a b c"), s.say("form c"), s.say("inside c a"), s.say("same a a"), s.say("made"), s.say("undo"), s.say("show c")]
+    ['version 4', 'turned 3 1 drop 2', 'no', 'yes', '2', 'version 3', 'error NoName']
+    >>> [s.say("keep d on x"), s.say("keep d"), s.say("put a 9 turn"), s.say("put a 0 on 03"), s.say("keep a on 1"), s.say("ask a 0 x"), s.say(7)]
+    ['error BadText', 'what', 'error Unfit', 'what', 'error Taken', 'error BadText', 'what']
+'''
+
 
 class TestExamples(unittest.TestCase):
     def test_signals(self):
@@ -313,12 +366,22 @@ class TestExamples(unittest.TestCase):
     def test_loose_rows(self):
         run(self, I5, run(self, I4, run(self, I3, run(self, I2))))
 
+    def test_asking(self):
+        run(self, J1)
+
+    def test_benches_and_logs(self):
+        run(self, K6, run(self, K5))
+
+    def test_shells(self):
+        run(self, K7)
+
     def test_the_runner_sees_each_example(self):
         self.assertEqual([len(pieces(text)) for text in (A6, A7, A8, B2, B3, B4)], [5, 2, 5, 4, 6, 7])
         self.assertEqual([len(pieces(text)) for text in (C3, C4, C5, D2, D3, D4)], [6, 4, 2, 3, 4, 4])
         self.assertEqual([len(pieces(text)) for text in (E2, E3, F2, F3, F5)], [6, 5, 8, 8, 4])
         self.assertEqual([len(pieces(text)) for text in (G2, G3, G4, H2, H3, H4)], [6, 4, 4, 5, 1, 3])
         self.assertEqual([len(pieces(text)) for text in (I2, I3, I4, I5)], [3, 4, 4, 1])
+        self.assertEqual([len(pieces(text)) for text in (J1, K5, K6, K7)], [6, 9, 5, 5])
 
 
 if __name__ == "__main__":

@@ -15,7 +15,7 @@ FILES = sorted(PACKAGE.rglob("*.py"))
 
 BUILTINS = set("""
     len range enumerate zip min max sum abs sorted reversed int str bool list tuple dict set isinstance ord repr
-    any all divmod iter next map property staticmethod classmethod super NotImplemented
+    any all divmod iter next map type property staticmethod classmethod super NotImplemented
     Exception ValueError TypeError KeyError IndexError LookupError ZeroDivisionError ArithmeticError
     OverflowError RuntimeError NotImplementedError AttributeError StopIteration
 """.split())
@@ -58,6 +58,10 @@ INTERFACE = {
     "powers": ["power_form", "settles"],
     "pulses": ["pulse", "gap"],
     "loose": ["loose_error", "most_on", "least_on", "sure_within", "sure_beyond", "sure_beyond_holds", "always_alike"],
+    "asking": ["told_back"],
+    "benches": ["Bench"],
+    "logs": ["log_text", "read_log", "bench_behind"],
+    "shells": ["Shell"],
 }
 
 
@@ -84,6 +88,8 @@ def bound_in(tree):
         elif isinstance(node, ast.ExceptHandler) and node.name:
             names.add(node.name)
         elif isinstance(node, ast.alias):
+            names.add(node.name)
+        elif isinstance(node, (ast.MatchAs, ast.MatchStar)) and node.name:
             names.add(node.name)
     return names
 
@@ -189,6 +195,29 @@ class TestLanguage(unittest.TestCase):
                     self.assertIn(node.func.attr, METHODS | own, path)
             words = set(re.findall(r"\w+", path.read_text(encoding="utf-8")))
             self.assertFalse(words & BARRED, path)
+
+    def test_type_tells_a_name_alone(self):
+        for path, tree in over_files():
+            text = path.read_text(encoding="utf-8")
+            self.assertEqual(len(re.findall(r"\btype\b", text)), len(re.findall(r"\btype\(\w+\)\.__name__", text)), path)
+            self.assertFalse("(type)" in text or "Meta" in text or "metaclass=" in text, path)
+
+    def test_what_a_class_that_compares_and_is_iterated_over_bars(self):
+        for path, tree in over_files():
+            for node in ast.walk(tree):
+                self.assertNotIsInstance(node, (ast.GeneratorExp, ast.Yield, ast.YieldFrom), path)
+                if isinstance(node, ast.Call) and isinstance(node.func, ast.Name):
+                    self.assertNotIn(node.func.id, ("reversed", "map", "frozenset"), path)
+                if isinstance(node, ast.Call) and isinstance(node.func, ast.Attribute):
+                    self.assertNotEqual(node.func.attr, "sort", path)
+                if isinstance(node, ast.FunctionDef) and node.name == "__eq__":
+                    self.assertRegex(ast.unparse(node.body[-1]),
+                                     r"^return isinstance\(other, (\w+)\) and self\.(\w+) == other\.\2$")
+                if isinstance(node, ast.FunctionDef) and node.name == "__iter__":
+                    self.assertRegex(ast.unparse(node.body[-1]), r"^return iter\(self\.\w+\)$")
+                    self.assertEqual(len(node.body), 1)
+                if isinstance(node, ast.pattern):
+                    self.assertIsInstance(node, (ast.MatchSequence, ast.MatchValue, ast.MatchAs, ast.MatchStar), path)
 
     def test_handlers_catch_own_errors(self):
         own = bound_in(tree_of(PACKAGE / "errors.py")) | {"KeyError", "ZeroDivisionError"}
