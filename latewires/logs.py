@@ -77,7 +77,7 @@ def _tuple_told(line):
         elif sign == ")" and len(nest) > 1:
             items = tuple(nest.pop())
             nest[-1].append(items)
-    return nest[0][0] if len(nest) == 1 and nest[0] else None
+    return nest[0][0] if nest[0] else None
 
 
 def _atom_told(text):
