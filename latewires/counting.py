@@ -45,5 +45,5 @@ def _ascending_counts(ticks):
     counts = [1] + [0] * ticks
     for item in range(1, ticks + 1):
         for total in range(ticks, item - 1, -1):
-            counts[total] += counts[total - item]
+            counts[total] = counts[total] + counts[total - item]
     return counts

@@ -94,6 +94,24 @@ def bound_in(tree):
     return names
 
 
+def changed_and_walked(node):
+    """Return the list of pairs of what node changes and what it walks to do so."""
+    if isinstance(node, ast.AugAssign) and isinstance(node.op, (ast.Add, ast.BitOr)):
+        return [(node.target, node.value)]
+    if isinstance(node, ast.Call) and isinstance(node.func, ast.Attribute) and node.func.attr in ("extend", "update"):
+        return [(node.func.value, given) for given in node.args]
+    return []
+
+
+def gets_what_it_changes(target, walked):
+    """Return whether walked reads what target stands in, other than as a list of its own."""
+    while isinstance(target, ast.Subscript):
+        target = target.value
+    if isinstance(walked, ast.Call) and isinstance(walked.func, ast.Name) and walked.func.id == "list":
+        return False
+    return ast.unparse(target) in [ast.unparse(part) for part in ast.walk(walked) if isinstance(part, ast.expr)]
+
+
 def over_files():
     return [(path, tree_of(path)) for path in FILES]
 
@@ -218,6 +236,19 @@ class TestLanguage(unittest.TestCase):
                     self.assertEqual(len(node.body), 1)
                 if isinstance(node, ast.pattern):
                     self.assertIsInstance(node, (ast.MatchSequence, ast.MatchValue, ast.MatchAs, ast.MatchStar), path)
+
+    def test_nothing_walks_what_it_changes(self):
+        for path, tree in over_files():
+            for node in ast.walk(tree):
+                for target, walked in changed_and_walked(node):
+                    self.assertFalse(gets_what_it_changes(target, walked), (path, node.lineno))
+
+    def test_what_walks_what_it_changes_is_seen(self):
+        for text, seen in (("a[k] += a[k - 1]", True), ("a += a", True), ("a.b |= c.d(a.b)", True),
+                           ("a.b[k].extend(a.b)", True), ("a.update(b or a)", True), ("a += list(a)", False),
+                           ("a.extend(list(a[1:]))", False), ("a.b += a.c", False), ("a[k] += b[k]", False)):
+            pairs = [pair for node in ast.walk(ast.parse(text)) for pair in changed_and_walked(node)]
+            self.assertEqual([gets_what_it_changes(*pair) for pair in pairs], [seen], text)
 
     def test_handlers_catch_own_errors(self):
         own = bound_in(tree_of(PACKAGE / "errors.py")) | {"KeyError", "ZeroDivisionError"}
